@@ -1,0 +1,1 @@
+"""Amidread: record formats that can be entered anywhere."""

@@ -1,0 +1,122 @@
+"""What several tests use: the document's formats, odd values, and slow but plain answers."""
+
+import copy
+import itertools
+import random
+
+from amidread.formats import Format
+
+CODE = Format.book("ab", ("aab", "abb"))
+SWAP = Format.book("ab", ("ab", "ba"))
+ITEM_ARROWS = ((0, "a", 0, "stop"), (0, "b", 1, ""), (1, "a", 1, ""), (1, "b", 0, "item"))
+ITEMS = Format("ab", 2, ITEM_ARROWS)
+
+
+def nested(depth):
+    """A value nested so deep, with lists, tuples and dicts in turn."""
+    thing = 0
+    for level in range(depth):
+        thing = ([thing], (thing,), {"a": thing})[level % 3]
+    return thing
+
+
+ODD_VALUES = (
+    None, True, False, 0, 1, -1, 2, 10 ** 39, -10 ** 39, "", " ", "a", "b", "ab", "abc", "z",
+    "A", "a b", "ab\n", "\n", "~", "word", "a" * 2000, (), (0,), (0, 0), ("a", "x"), ("", "x"),
+    ("a", ""), ["a", "x"], ("a", "x", "y"), (0, "a", 0, "x"), [0, "a", 0, "x"], [], [[]], {},
+    {"a": 1}, {0: "a"}, (None,), ("a", None), (True, "a", False, "x"), nested(30), [0] * 4999,
+    CODE, SWAP, (CODE,), [ITEMS],
+)
+
+
+def same(one, other):
+    """Whether two values are equal, also in what is a bool, a list or a tuple."""
+    if one is other:
+        return True
+    if type(one) is not type(other):
+        return False
+    if isinstance(one, (list, tuple)):
+        return len(one) == len(other) and all(map(same, one, other))
+    if isinstance(one, dict):
+        return same(list(one.items()), list(other.items()))
+    return one == other
+
+
+def shape(form):
+    """All that a format shows."""
+    return (form.letters, form.states, form.arrows)
+
+
+def error_of(make, *args, **named):
+    """The error that a call raises, or None."""
+    try:
+        make(*args, **named)
+    except Exception as error:
+        return error
+    return None
+
+
+def words_up_to(letters, length):
+    """All words of at most so many letters, in the order of words."""
+    return ["".join(word) for size in range(length + 1) for word in itertools.product(letters, repeat=size)]
+
+
+def records_by_ways(arrows, length):
+    """The set of the records of at most so many letters, found way by way."""
+    found = set()
+    ways = {(0, "")}
+    for _ in range(length):
+        longer = set()
+        for state, word in ways:
+            for source, letter, target, kind in arrows:
+                if source == state and target == 0:
+                    found.add((word + letter, kind))
+                elif source == state:
+                    longer.add((target, word + letter))
+        ways = longer
+    return found
+
+
+def records_by_asking(form, length):
+    """The set of the records of at most so many letters, as kinds_of tells them."""
+    return {(word, kind) for word in words_up_to(form.letters, length) for kind in form.kinds_of(word)}
+
+
+def states_on_ways(states, arrows):
+    """The states on ways of records, by joining ways until none is new."""
+    ways = {(arrow[0], arrow[2]) for arrow in arrows}
+    size = -1
+    while size < len(ways):
+        size = len(ways)
+        ways |= {(a, d) for a, b in ways for c, d in ways if b == c and b != 0}
+    inner = {state for state in range(1, states) if (0, state) in ways and (state, 0) in ways}
+    return inner | ({0} if (0, 0) in ways else set())
+
+
+def random_format(chance, letters="ab", states=4, arrows=9, kinds=("x", "y")):
+    """A format of so many states at most; states that are of no use are left out."""
+    while True:
+        made = set()
+        for _ in range(arrows):
+            target = chance.randrange(states)
+            kind = chance.choice(kinds) if target == 0 else ""
+            made.add((chance.randrange(states), chance.choice(letters), target, kind))
+        useful = sorted(states_on_ways(states, made))
+        if useful:
+            break
+    number = {state: at for at, state in enumerate(useful)}
+    kept = [a for a in made if a[0] in number and a[2] in number]
+    return Format(letters, len(useful), tuple(sorted((number[a[0]], a[1], number[a[2]], a[3]) for a in kept)))
+
+
+def random_formats(seed, many, **sizes):
+    """So many formats, the same ones at each run."""
+    chance = random.Random(seed)
+    return [random_format(chance, **sizes) for _ in range(many)]
+
+
+def unchanged_by(call, *args):
+    """Whether a call, that may raise an error, leaves its arguments as they are."""
+    before = copy.deepcopy(args)
+    error_of(call, *args)
+    return same(list(args), list(before))

@@ -1,0 +1,155 @@
+"""The rules for the package's own code that can be told from its files, and its interface."""
+
+import ast
+import inspect
+import pathlib
+import unittest
+import warnings
+
+from amidread import errors, formats, words
+
+FOLDER = pathlib.Path(__file__).resolve().parent.parent / "amidread"
+FILES = sorted(path for path in FOLDER.rglob("*") if path.suffix != ".pyc" and path.name != "__pycache__")
+BUILTINS = {
+    "len", "range", "enumerate", "zip", "min", "max", "sum", "abs", "sorted", "reversed", "int", "str", "bool",
+    "list", "tuple", "dict", "set", "isinstance", "ord", "repr", "any", "all", "divmod", "map",
+    "property", "classmethod", "staticmethod", "Exception", "ValueError", "TypeError", "KeyError", "NotImplemented",
+}
+METHODS = {
+    "__init__", "__eq__", "__repr__", "__str__", "__len__", "__call__", "__or__", "__contains__",
+}
+BARRED_NODES = (
+    ast.Global, ast.AsyncFunctionDef, ast.AsyncFor, ast.AsyncWith, ast.Await, ast.GeneratorExp, ast.Div,
+    ast.Set, ast.AnnAssign, ast.TryStar,
+)
+BARRED_WORDS = {
+    "type", "typing", "enum", "Enum", "register", "mro", "elements", "open", "input", "law", "eval", "exec", "id",
+    "globals", "locals", "vars", "dir", "chr", "bytes", "hash", "iter", "next", "format",
+}
+INTERFACE = {
+    errors: {name: None for name in (
+        "ReadError", "BadFormat", "BadWord", "BadRecord", "InvalidText", "OtherLetters", "NoReading", "TwoReadings",
+        "NotEnough", "NotSure", "NoBook", "EvenLength", "NameTaken", "UnknownName")},
+    words: {"is_letters": "thing", "is_word": "letters thing", "words_with": "letters length", "turns": "word",
+            "least_turn": "word", "is_repeated": "word"},
+    formats: {"Format": "letters states arrows", "parting": "form other"},
+}
+METHODS_OF_FORMAT = {"kinds_of": "word", "backward": "", "of": "letters records", "book": "letters words",
+                     "read": "text"}
+
+
+def trees():
+    return [(path, ast.parse(path.read_text())) for path in FILES]
+
+
+def nodes_of(*kinds):
+    return [(path.name, node) for path, tree in trees() for node in ast.walk(tree) if isinstance(node, kinds)]
+
+
+class Files(unittest.TestCase):
+    def test_names(self):
+        self.assertIn(FOLDER / "__init__.py", FILES)
+        for path in FILES:
+            self.assertRegex(path.name, "^[a-z_][a-z0-9_]*[.]py$")
+            self.assertEqual(path.parent, FOLDER)
+
+    def test_sizes_and_characters(self):
+        for path in FILES:
+            data = path.read_bytes()
+            self.assertTrue(all(32 <= byte <= 126 or byte == 10 for byte in data), path.name)
+            lines = data.split(b"\n")
+            self.assertLessEqual(len(lines), 400, path.name)
+            self.assertLessEqual(max(map(len, lines)), 120, path.name)
+        for name, node in nodes_of(ast.FunctionDef):
+            self.assertLessEqual(node.end_lineno - node.lineno + 1, 40, (name, node.name))
+
+    def test_no_warnings(self):
+        with warnings.catch_warnings():
+            warnings.simplefilter("error")
+            for path in FILES:
+                compile(path.read_text(), str(path), "exec")
+
+
+class Code(unittest.TestCase):
+    def test_imports(self):
+        self.assertEqual(nodes_of(ast.Import), [])
+        for name, node in nodes_of(ast.ImportFrom):
+            self.assertEqual((node.level, node.module.split(".")[0]), (0, "amidread"))
+            home = FOLDER / (node.module.split(".")[1] + ".py")
+            defined = {part.name for part in ast.parse(home.read_text()).body if hasattr(part, "name")}
+            defined |= {target.id for part in ast.parse(home.read_text()).body if isinstance(part, ast.Assign)
+                        for target in part.targets}
+            for alias in node.names:
+                self.assertIn(alias.name, defined)
+                self.assertIsNone(alias.asname)
+
+    def test_module_level(self):
+        plain = (ast.ImportFrom, ast.FunctionDef, ast.ClassDef, ast.Assign)
+        for path, tree in trees():
+            for at, node in enumerate(tree.body):
+                docstring = at == 0 and isinstance(node, ast.Expr) and isinstance(node.value, ast.Constant)
+                self.assertTrue(docstring or isinstance(node, plain), (path.name, node.lineno))
+
+    def test_nodes(self):
+        for name, node in nodes_of(*BARRED_NODES):
+            self.fail(f"{name}: line {node.lineno}")
+        for name, node in nodes_of(ast.Constant):
+            self.assertNotIsInstance(node.value, (float, complex, bytes))
+            if isinstance(node.value, str):
+                self.assertNotIn(chr(37), node.value)
+        for name, node in nodes_of(ast.FunctionDef, ast.ClassDef):
+            for decorator in node.decorator_list:
+                self.assertIn(ast.unparse(decorator), ("property", "classmethod"))
+        for name, node in nodes_of(ast.arg):
+            self.assertIsNone(node.annotation)
+        for name, node in nodes_of(ast.FunctionDef):
+            self.assertIsNone(node.returns)
+            if node.name.startswith("__"):
+                self.assertIn(node.name, METHODS)
+
+    def test_names(self):
+        for name, node in nodes_of(ast.Name, ast.arg, ast.Attribute, ast.FunctionDef, ast.ClassDef):
+            word = getattr(node, "id", None) or getattr(node, "arg", None) or getattr(node, "attr", None) or node.name
+            self.assertNotIn(word, BARRED_WORDS, (name, node.lineno))
+        for path, tree in trees():
+            known = set(BUILTINS)
+            for node in ast.walk(tree):
+                if isinstance(node, ast.Name) and isinstance(node.ctx, ast.Store):
+                    self.assertNotIn(node.id, BUILTINS)
+                    known.add(node.id)
+                elif isinstance(node, ast.arg):
+                    self.assertNotIn(node.arg, BUILTINS)
+                    known.add(node.arg)
+                elif isinstance(node, (ast.FunctionDef, ast.ClassDef)):
+                    known.add(node.name)
+                elif isinstance(node, ast.ImportFrom):
+                    known |= {alias.name for alias in node.names}
+            for node in ast.walk(tree):
+                if isinstance(node, ast.Name):
+                    self.assertIn(node.id, known, (path.name, node.lineno))
+
+    def test_own_errors_are_caught(self):
+        own = set(INTERFACE[errors])
+        for name, node in nodes_of(ast.ExceptHandler):
+            self.assertIn(ast.unparse(node.type), own)
+
+
+class Interface(unittest.TestCase):
+    def test_functions_and_classes(self):
+        for module, names in INTERFACE.items():
+            for name, parameters in names.items():
+                made = getattr(module, name)
+                self.assertEqual(made.__module__, module.__name__)
+                if parameters is not None:
+                    self.assertEqual(" ".join(inspect.signature(made).parameters), parameters)
+
+    def test_methods_of_formats(self):
+        own = vars(formats.Format)
+        for name, parameters in METHODS_OF_FORMAT.items():
+            self.assertIn(name, own)
+            found = list(inspect.signature(getattr(formats.Format, name)).parameters)
+            self.assertEqual(" ".join(word for word in found if word != "self"), parameters)
+        for name in ("kinds", "text"):
+            self.assertIsInstance(own[name], property)
+        for name in ("__init__", "__contains__", "__eq__", "__or__"):
+            self.assertIn(name, own)
