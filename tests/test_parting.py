@@ -90,6 +90,17 @@ class Parting(unittest.TestCase):
             self.check(one, other, 4)
             self.assertIsNone(parting(one, one.backward().backward()))
 
+    def test_only_the_records_count(self):
+        made = random_formats(27, 30, states=5, arrows=12)
+        for one, other in zip(made, made[1:]):
+            for again in (one | one, one.backward().backward(), Format.read(one.text)):
+                self.assertIsNone(parting(one, again))
+                self.assertEqual(again.kinds, one.kinds)
+                self.assertEqual(parting(again, other), parting(one, other))
+                for word in words_up_to("ab", 4):
+                    self.assertEqual(again.kinds_of(word), one.kinds_of(word))
+                    self.assertIs((word, "x") in again, (word, "x") in one)
+
     def test_books(self):
         chance = random.Random(20)
         for _ in range(20):
