@@ -120,3 +120,103 @@ def unchanged_by(call, *args):
     before = copy.deepcopy(args)
     error_of(call, *args)
     return same(list(args), list(before))
+
+
+def renumbered(form):
+    """The same format with its inner states in the opposite order."""
+    number = {state: form.states - state for state in range(1, form.states)}
+    number[0] = 0
+    arrows = [(number[source], letter, number[target], kind) for source, letter, target, kind in form.arrows]
+    return Format(form.letters, form.states, tuple(sorted(arrows)))
+
+
+def written_otherwise(form):
+    """Formats with the same records."""
+    return [form | form, form.backward().backward(), Format.read(form.text), renumbered(form),
+            renumbered(form) | form.backward().backward()]
+
+
+def texts_up_to(form, length):
+    """The list of the texts with at most so many letters."""
+    records = records_by_ways(form.arrows, length)
+    found = [()]
+    for text in found:
+        used = sum(len(word) for word, kind in text)
+        found.extend(text + (record,) for record in records if used + len(record[0]) <= length)
+    return found
+
+
+def spelt(text):
+    """The letters of a text, and in a list the answers behind each of them."""
+    return ("".join(word for word, kind in text),
+            [kind if at == len(word) - 1 else "" for word, kind in text for at in range(len(word))])
+
+
+def answers_by_rows(form, a, b):
+    """A dict from each stretch of a and b letters that occurs to the set of its answers.
+
+    It follows all rows of arrows, the first of which stands in front of the place when no letters ahead count.
+    """
+    rows = {("", state, None) for state in range(form.states)}
+    ahead = max(a, 1)
+    for at in range(1, ahead + b + 1):
+        rows = {(word + letter, target, kind if at == ahead else answer)
+                for word, state, answer in rows
+                for source, letter, target, kind in form.arrows if source == state}
+    found = {}
+    for word, state, answer in rows:
+        found.setdefault((word[ahead - a:ahead], word[ahead:]), set()).add(answer)
+    return found
+
+
+def enough_by_rows(form, a, b):
+    """Whether no stretch of a and b letters has two answers."""
+    return all(len(answers) == 1 for answers in answers_by_rows(form, a, b).values())
+
+
+def first_of(made, many):
+    """So many items of a generator, at most."""
+    return list(itertools.islice(made, many))
+
+
+def with_part(thing, path, part):
+    """A nested value with one part replaced; the path to it has an index for each depth."""
+    if not path:
+        return part
+    items = list(thing)
+    items[path[0]] = with_part(items[path[0]], path[1:], part)
+    return type(thing)(items)
+
+
+def paths_in(thing):
+    """The paths to all parts of nested tuples and lists, the whole among them."""
+    if not isinstance(thing, (tuple, list)):
+        return [()]
+    return [()] + [(at,) + path for at, part in enumerate(thing) for path in paths_in(part)]
+
+
+def part_at(thing, path):
+    """The part of a nested value at the end of a path."""
+    for at in path:
+        thing = thing[at]
+    return thing
+
+
+def spoilt_parts(part):
+    """Values that can stand in the place of a part and are much like it."""
+    if isinstance(part, bool):
+        return [int(part), not part, None]
+    if isinstance(part, int):
+        return [part + 1, part - 1, -part, bool(part), str(part), None, 10 ** 39]
+    if isinstance(part, str):
+        return [part + "a", part[:-1], part + "A", part[::-1], "", list(part), None, 0, "word", "x"]
+    if isinstance(part, tuple):
+        return ([list(part), part + part, part[:-1], part[1:], part[::-1], part + (None,), (), (part,), None, "", {}]
+                + [part[:at] + part[at + 1:] for at in range(len(part))]
+                + [part[:at] + part[at:at + 1] + part[at:] for at in range(len(part))])
+    return [None, 0]
+
+
+def spoilt(thing):
+    """Values that differ from a nested value in one part."""
+    return [with_part(thing, path, part) for path in paths_in(thing) for part in spoilt_parts(part_at(thing, path))]

@@ -1,12 +1,13 @@
 """The rules for the package's own code that can be told from its files, and its interface."""
 
 import ast
+import builtins
 import inspect
 import pathlib
 import unittest
 import warnings
 
-from amidread import errors, formats, words
+from amidread import errors, formats, pairs, papers, stretches, texts, words
 
 FOLDER = pathlib.Path(__file__).resolve().parent.parent / "amidread"
 FILES = sorted(path for path in FOLDER.rglob("*") if path.suffix != ".pyc" and path.name != "__pycache__")
@@ -33,17 +34,27 @@ INTERFACE = {
     words: {"is_letters": "thing", "is_word": "letters thing", "words_with": "letters length", "turns": "word",
             "least_turn": "word", "is_repeated": "word"},
     formats: {"Format": "letters states arrows", "parting": "form other"},
+    texts: {"is_text": "form thing", "letters_of": "text", "answers_of": "text", "readings": "form word",
+            "read": "form word", "words_of": "form", "two_readings": "form"},
+    stretches: {"answers": "form ahead behind", "stretches": "form a b"},
+    pairs: {"standings": "form", "steps": "form pair", "witnesses": "form", "reach_in": "form pair",
+            "reach_out": "form pair", "corners": "form", "is_enough": "form a b"},
+    papers: {"sure_paper": "form a b", "enough_holds": "form a b thing", "unsure": "form a b",
+             "unsure_holds": "form a b thing"},
+}
+GENERATORS = {words.words_with, texts.readings, texts.words_of, stretches.stretches}
+# Methods of builtin values, and what the package calls its own.
+METHODS_OF_VALUES = {
+    "append", "copy", "count", "endswith", "extend", "find", "get", "index", "items", "join", "keys", "pop", "replace",
+    "rstrip", "setdefault", "split", "startswith", "strip", "values", "add", "bit_length",
 }
 METHODS_OF_FORMAT = {"kinds_of": "word", "backward": "", "of": "letters records", "book": "letters words",
                      "read": "text"}
-
-
-def trees():
-    return [(path, ast.parse(path.read_text())) for path in FILES]
+TREES = [(path, ast.parse(path.read_text())) for path in FILES]
 
 
 def nodes_of(*kinds):
-    return [(path.name, node) for path, tree in trees() for node in ast.walk(tree) if isinstance(node, kinds)]
+    return [(path.name, node) for path, tree in TREES for node in ast.walk(tree) if isinstance(node, kinds)]
 
 
 class Files(unittest.TestCase):
@@ -85,7 +96,7 @@ class Code(unittest.TestCase):
 
     def test_module_level(self):
         plain = (ast.ImportFrom, ast.FunctionDef, ast.ClassDef, ast.Assign)
-        for path, tree in trees():
+        for path, tree in TREES:
             for at, node in enumerate(tree.body):
                 docstring = at == 0 and isinstance(node, ast.Expr) and isinstance(node.value, ast.Constant)
                 self.assertTrue(docstring or isinstance(node, plain), (path.name, node.lineno))
@@ -111,7 +122,7 @@ class Code(unittest.TestCase):
         for name, node in nodes_of(ast.Name, ast.arg, ast.Attribute, ast.FunctionDef, ast.ClassDef):
             word = getattr(node, "id", None) or getattr(node, "arg", None) or getattr(node, "attr", None) or node.name
             self.assertNotIn(word, BARRED_WORDS, (name, node.lineno))
-        for path, tree in trees():
+        for path, tree in TREES:
             known = set(BUILTINS)
             for node in ast.walk(tree):
                 if isinstance(node, ast.Name) and isinstance(node.ctx, ast.Store):
@@ -128,6 +139,58 @@ class Code(unittest.TestCase):
                 if isinstance(node, ast.Name):
                     self.assertIn(node.id, known, (path.name, node.lineno))
 
+    def test_own_names(self):
+        for path, tree in TREES:
+            taken = set(dir(builtins))
+            for node in tree.body:
+                if isinstance(node, ast.ImportFrom):
+                    taken |= {alias.name for alias in node.names}
+                elif isinstance(node, ast.ClassDef):
+                    taken.add(node.name)
+            for node in ast.walk(tree):
+                if isinstance(node, ast.arg):
+                    self.assertNotIn(node.arg, taken, path.name)
+                elif isinstance(node, ast.Name) and isinstance(node.ctx, ast.Store):
+                    self.assertNotIn(node.id, taken, path.name)
+
+    def test_methods_are_known(self):
+        own = {node.name for name, node in nodes_of(ast.FunctionDef)}
+        for name, node in nodes_of(ast.Call):
+            if isinstance(node.func, ast.Attribute):
+                self.assertIn(node.func.attr, own | METHODS_OF_VALUES, (name, node.lineno))
+
+    def test_attributes_are_assigned(self):
+        assigned = {node.attr for name, node in nodes_of(ast.Attribute) if isinstance(node.ctx, ast.Store)}
+        called = {node.func for name, node in nodes_of(ast.Call)}
+        shown = {node.name for name, node in nodes_of(ast.FunctionDef) if node.decorator_list}
+        for name, node in nodes_of(ast.Attribute):
+            if isinstance(node.ctx, ast.Load) and node not in called:
+                self.assertIn(node.attr, assigned | shown, (name, node.lineno))
+
+    def test_generators_are_gone_through_at_once(self):
+        made = {node.name for name, node in nodes_of(ast.FunctionDef)
+                if any(isinstance(part, (ast.Yield, ast.YieldFrom)) for part in ast.walk(node))}
+        self.assertEqual(len(made), len([node for name, node in nodes_of(ast.FunctionDef) if node.name in made]))
+        at_once = set()
+        for name, node in nodes_of(ast.For, ast.comprehension, ast.YieldFrom):
+            at_once.add(node.value if isinstance(node, ast.YieldFrom) else node.iter)
+        for name, node in nodes_of(ast.Call):
+            if isinstance(node.func, ast.Name) and node.func.id in made:
+                self.assertTrue(node in at_once, (name, node.lineno))
+                for part in node.args:
+                    self.assertIsInstance(part, (ast.Name, ast.Attribute, ast.Constant))
+
+    def test_sets_are_not_gone_through(self):
+        for path, tree in TREES:
+            around = {child: node for node in ast.walk(tree) for child in ast.iter_child_nodes(node)}
+            for node in ast.walk(tree):
+                made = isinstance(node, ast.Call) and isinstance(node.func, ast.Name) and node.func.id == "set"
+                if isinstance(node, ast.SetComp) or made:
+                    use = around[node]
+                    kept = isinstance(use, ast.Assign) and isinstance(use.targets[0], ast.Name)
+                    sorted_at_once = isinstance(use, ast.Call) and use.func.id in ("sorted", "len")
+                    self.assertTrue(kept or sorted_at_once or isinstance(use, ast.Compare), (path.name, node.lineno))
+
     def test_own_errors_are_caught(self):
         own = set(INTERFACE[errors])
         for name, node in nodes_of(ast.ExceptHandler):
@@ -142,6 +205,20 @@ class Interface(unittest.TestCase):
                 self.assertEqual(made.__module__, module.__name__)
                 if parameters is not None:
                     self.assertEqual(" ".join(inspect.signature(made).parameters), parameters)
+
+    def test_generators(self):
+        for module, names in INTERFACE.items():
+            for name in names:
+                made = getattr(module, name)
+                self.assertEqual(inspect.isgeneratorfunction(made), made in GENERATORS, name)
+
+    def test_no_circle_of_imports(self):
+        needs = {path.stem: {node.module.split(".")[1] for node in ast.walk(tree) if isinstance(node, ast.ImportFrom)}
+                 for path, tree in TREES}
+        while needs:
+            free = {name for name, wanted in needs.items() if not wanted & set(needs)}
+            self.assertTrue(free, needs)
+            needs = {name: wanted for name, wanted in needs.items() if name not in free}
 
     def test_methods_of_formats(self):
         own = vars(formats.Format)
