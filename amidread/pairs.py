@@ -22,11 +22,21 @@ def origins_of(form):
                      for target in leads[(standing, letter)]])
 
 
+def in_order(one, other):
+    """The pair of two standings."""
+    return (one, other) if one <= other else (other, one)
+
+
+def leads_beside(letters, table, one, other):
+    """The list of (letter, standing, other standing) for the leads, or the origins, of two standings."""
+    return [(letter, lead, other_lead) for letter in letters
+            for lead in table.get((one, letter), []) for other_lead in table.get((other, letter), [])]
+
+
 def pairs_beyond(letters, table, pair):
     """The ascending list of (letter, pair) for the leads, or the origins, of both standings of a pair."""
-    found = [(letter, (one, other) if one <= other else (other, one)) for letter in letters
-             for one in table.get((pair[0], letter), []) for other in table.get((pair[1], letter), [])]
-    return sorted(set(found))
+    beside = leads_beside(letters, table, pair[0], pair[1])
+    return sorted({(letter, in_order(lead, other_lead)) for letter, lead, other_lead in beside})
 
 
 def steps(form, pair):

@@ -1,6 +1,6 @@
 """Rows of steps from pair to pair, and the texts that go through them."""
 
-from amidread.pairs import standings
+from amidread.pairs import leads_of, standings
 from amidread.texts import text_with
 from amidread.ways import ways_of
 
@@ -31,6 +31,21 @@ def lines_through(leads, pair, row):
         line.append(one if straight else other)
         other_line.append(other if straight else one)
     return line, other_line
+
+
+def line_around(form, ahead, behind, answer):
+    """A list of standings through which the letters of a stretch lead, with an answer at its place."""
+    leads = leads_of(form)
+    lines = [[standing] for standing in standings(form) if ahead != "" or standing[1] == answer]
+    for at, letter in enumerate(ahead + behind, start=1):
+        # One line to each standing will do.
+        longer = {}
+        for line in lines:
+            for lead in leads.get((line[-1], letter), []):
+                if at != len(ahead) or lead[1] == answer:
+                    longer.setdefault(lead, line + [lead])
+        lines = list(longer.values())
+    return lines[0]
 
 
 def shortest_way(form, state, ends):

@@ -1,20 +1,11 @@
 """Stretches of letters around a place, and the answers with which they occur."""
 
-from amidread.groups import every_state, groups_before, is_in, words_along
-from amidread.ways import ways_of
+from amidread.groups import Sight, every_state, words_along
 
 
 def answers(form, ahead, behind):
     """The ascending tuple of the answers with which a stretch occurs."""
-    # Where no letter ahead is asked for, some letter stands in front of the place all the same.
-    leads = [arrow[2:] for arrow in form.arrows]
-    ways = ways_of(form.arrows)
-    starts = list(range(form.states))
-    for letter in ahead:
-        leads = [lead for state in starts for lead in ways.get((state, letter), [])]
-        starts = sorted({target for target, _ in leads})
-    lasting = groups_before(form.arrows, behind, every_state(form))[0]
-    return tuple(sorted({kind for target, kind in leads if is_in(target, lasting)}))
+    return Sight(form).answers(ahead, behind)
 
 
 def stretches(form, a, b):

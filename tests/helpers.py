@@ -220,3 +220,29 @@ def spoilt_parts(part):
 def spoilt(thing):
     """Values that differ from a nested value in one part."""
     return [with_part(thing, path, part) for path in paths_in(thing) for part in spoilt_parts(part_at(thing, path))]
+
+
+def enterable(words):
+    """Whether no circle of letters can be cut into words of a book at two unlike sets of places.
+
+    Two ways to cut go along beside each other; a knot is what one of them is ahead of the other.
+    """
+    knots = {""} | {word[at:] for word in words for at in range(1, len(word))}
+    links = {}
+    for knot in knots:
+        found = set()
+        for word in words:
+            if word.startswith(knot):
+                found.add(word[len(knot):])
+            elif knot.startswith(word):
+                found.add(knot[len(word):])
+        if knot == "":
+            # Both ways take words here, unlike ones: the longer one begins with the other.
+            found = {word[len(other):] for word in words for other in words if word != other and word.startswith(other)}
+        links[knot] = found
+    left = set(knots)
+    size = -1
+    while size != len(left):
+        size = len(left)
+        left = {knot for knot in left if links[knot] & left}
+    return not left

@@ -7,7 +7,7 @@ import pathlib
 import unittest
 import warnings
 
-from amidread import errors, formats, pairs, papers, stretches, texts, words
+from amidread import errors, formats, never, pairs, papers, pieces, readers, rings, stretches, texts, words
 
 FOLDER = pathlib.Path(__file__).resolve().parent.parent / "amidread"
 FILES = sorted(path for path in FOLDER.rglob("*") if path.suffix != ".pyc" and path.name != "__pycache__")
@@ -41,6 +41,11 @@ INTERFACE = {
             "reach_out": "form pair", "corners": "form", "is_enough": "form a b"},
     papers: {"sure_paper": "form a b", "enough_holds": "form a b thing", "unsure": "form a b",
              "unsure_holds": "form a b thing"},
+    readers: {"Reader": "form a b", "caught": "form a b reader"},
+    pieces: {"told_by": "form ahead piece behind begins ends", "told_in_pieces": "form a b word cuts"},
+    never: {"never": "form", "never_holds": "form thing", "sides": "paper", "pumped": "form paper times"},
+    rings: {"letter_rings": "many length", "record_rings": "lengths", "barred_at": "many lengths",
+            "book_with": "letters lengths", "least_many": "lengths", "room": "many lengths length"},
 }
 GENERATORS = {words.words_with, texts.readings, texts.words_of, stretches.stretches}
 # Methods of builtin values, and what the package calls its own.
@@ -48,8 +53,12 @@ METHODS_OF_VALUES = {
     "append", "copy", "count", "endswith", "extend", "find", "get", "index", "items", "join", "keys", "pop", "replace",
     "rstrip", "setdefault", "split", "startswith", "strip", "values", "add", "bit_length",
 }
-METHODS_OF_FORMAT = {"kinds_of": "word", "backward": "", "of": "letters records", "book": "letters words",
-                     "read": "text"}
+METHODS_OF_CLASSES = {
+    formats.Format: {"kinds_of": "word", "backward": "", "of": "letters records", "book": "letters words",
+                     "read": "text", "__contains__": None, "__eq__": None, "__or__": None},
+    readers.Reader: {"__call__": "ahead behind", "told": "word"},
+}
+PROPERTIES_OF_CLASSES = {formats.Format: ("kinds", "text")}
 TREES = [(path, ast.parse(path.read_text())) for path in FILES]
 
 
@@ -220,13 +229,21 @@ class Interface(unittest.TestCase):
             self.assertTrue(free, needs)
             needs = {name: wanted for name, wanted in needs.items() if name not in free}
 
-    def test_methods_of_formats(self):
-        own = vars(formats.Format)
-        for name, parameters in METHODS_OF_FORMAT.items():
-            self.assertIn(name, own)
-            found = list(inspect.signature(getattr(formats.Format, name)).parameters)
-            self.assertEqual(" ".join(word for word in found if word != "self"), parameters)
-        for name in ("kinds", "text"):
-            self.assertIsInstance(own[name], property)
-        for name in ("__init__", "__contains__", "__eq__", "__or__"):
-            self.assertIn(name, own)
+    def test_methods_of_classes(self):
+        for made, methods in METHODS_OF_CLASSES.items():
+            own = vars(made)
+            self.assertIn("__init__", own)
+            for name, parameters in methods.items():
+                self.assertIn(name, own)
+                if parameters is not None:
+                    found = list(inspect.signature(getattr(made, name)).parameters)
+                    self.assertEqual(" ".join(word for word in found if word != "self"), parameters)
+        for made, names in PROPERTIES_OF_CLASSES.items():
+            for name in names:
+                self.assertIsInstance(vars(made)[name], property)
+
+    def test_by_name_only(self):
+        for made, name in ((pieces.told_by, "begins"), (pieces.told_by, "ends")):
+            parameter = inspect.signature(made).parameters[name]
+            self.assertIs(parameter.kind, parameter.KEYWORD_ONLY)
+            self.assertIs(parameter.default, False)

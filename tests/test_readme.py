@@ -1,4 +1,4 @@
-"""The examples of README.md, and those of the document for what there is so far."""
+"""The examples of README.md, and those of the document."""
 
 import doctest
 import pathlib
@@ -24,6 +24,12 @@ DOCUMENT = r'''
 >>> [corners(Format.book("ab", ("a", "ba"))), corners(Format.book("ab", ("a", "b"))),
 ...  reach_in(CODE, ((0, "word"), (0, "word")))]
 [((1, 0),), ((0, 0),), None]
+>>> from amidread.pieces import told_by, told_in_pieces
+>>> [told_by(CODE, "", "ba", "a"), told_in_pieces(CODE, 0, 1, "aababb", (1, 2, 3, 4, 5))]
+[('word', ''), ('', '', 'word', '', '', 'word')]
+>>> from amidread.rings import barred_at, letter_rings, record_rings, room
+>>> [letter_rings(2, 4), record_rings((1, 1)), barred_at(2, (0, 2)), barred_at(2, (0, 0, 2)), room(2, (0, 0, 1), 3)]
+[3, (1, 1), 2, None, 1]
 '''
 
 
