@@ -100,13 +100,13 @@ class Sight:
         return self.kinds_between(group, ahead[-1:], lasting)
 
 
-def words_along(form, lasting):
+def words_along(letters, arrows, lasting):
     """Yields, in order, the words along which states of some groups follow one another.
 
     lasting[k] is the group for the place with k letters behind it. From each of its states a letter
     must lead to the next group: then every beginning that is tried here is that of a word.
     """
-    paces = Paces(form.arrows)
+    paces = Paces(arrows)
     todo = [("", lasting[-1])]
     while todo:
         word, group = todo.pop()
@@ -114,7 +114,7 @@ def words_along(form, lasting):
         if left == 0:
             yield word
         else:
-            for letter in form.letters[::-1]:
+            for letter in letters[::-1]:
                 after = paces.group_after(group, letter) & lasting[left - 1]
                 if after != 0:
                     todo.append((word + letter, after))

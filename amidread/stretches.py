@@ -12,5 +12,5 @@ def stretches(form, a, b):
     """Yields the stretches of a and b letters that occur, in the order of their letters."""
     # Texts can begin in front of every state, and end behind it.
     lasting = [every_state(form)] * (a + b + 1)
-    for word in words_along(form, lasting):
+    for word in words_along(form.letters, form.arrows, lasting):
         yield (word[:a], word[a:])

@@ -113,7 +113,7 @@ def words_of(form):
     while True:
         # No words come of a length that no text has.
         groups = lasting[:-1] + [BORDER]
-        yield from words_along(form, groups)
+        yield from words_along(form.letters, form.arrows, groups)
         lasting.append(group_one_before(form.arrows, lasting[-1]))
 
 

@@ -7,7 +7,8 @@ import pathlib
 import unittest
 import warnings
 
-from amidread import errors, formats, never, pairs, papers, pieces, readers, rings, stretches, texts, words
+from amidread import (changes, commafree, desk, errors, formats, never, pairs, papers, pieces, readers, rings, stretches,
+                      texts, twoformats, words)
 
 FOLDER = pathlib.Path(__file__).resolve().parent.parent / "amidread"
 FILES = sorted(path for path in FOLDER.rglob("*") if path.suffix != ".pyc" and path.name != "__pycache__")
@@ -46,6 +47,10 @@ INTERFACE = {
     never: {"never": "form", "never_holds": "form thing", "sides": "paper", "pumped": "form paper times"},
     rings: {"letter_rings": "many length", "record_rings": "lengths", "barred_at": "many lengths",
             "book_with": "letters lengths", "least_many": "lengths", "room": "many lengths length"},
+    commafree: {"is_comma_free": "words", "comma_free_book": "letters length", "marked_turn": "letters word"},
+    changes: {"fewest_out": "letters words", "out_holds": "letters words thing", "least_marker": "letters words"},
+    twoformats: {"least_telling": "form other", "common": "form other n"},
+    desk: {"Desk": "form a b"},
 }
 GENERATORS = {words.words_with, texts.readings, texts.words_of, stretches.stretches}
 # Methods of builtin values, and what the package calls its own.
@@ -57,8 +62,10 @@ METHODS_OF_CLASSES = {
     formats.Format: {"kinds_of": "word", "backward": "", "of": "letters records", "book": "letters words",
                      "read": "text", "__contains__": None, "__eq__": None, "__or__": None},
     readers.Reader: {"__call__": "ahead behind", "told": "word"},
+    desk.Desk: {"write": "records", "come": "name", "go": "name", "told": "name", "news": "name",
+                "spoil": "place letter"},
 }
-PROPERTIES_OF_CLASSES = {formats.Format: ("kinds", "text")}
+PROPERTIES_OF_CLASSES = {formats.Format: ("kinds", "text"), desk.Desk: ("written",)}
 TREES = [(path, ast.parse(path.read_text())) for path in FILES]
 
 
