@@ -9,12 +9,12 @@ class Desk:
     """The letters of a text that grows, and who reads them."""
 
     def __init__(self, form, a, b):
-        self.form = form
         self._reader = Reader(form, a, b)
         self._letters = ""
-        # The answers that were asked for, place by place, until a letter near them is spoilt.
-        self._answers = {}
-        # How many letters had been written when somebody came in, by names.
+        # For each place, from 0 on, its answer, or None; and the places that are not worked out yet.
+        self._answers = [None]
+        self._stale = {}
+        # By names: how many letters had been written when a reader came in, and what was returned as news.
         self._starts = {}
         self._returned = {}
 
@@ -26,9 +26,13 @@ class Desk:
     def write(self, *records):
         """Writes records behind the others, all or none."""
         for record in records:
-            if record not in self.form:
+            if record not in self._reader.form:
                 raise BadRecord(record)
-        self._letters = self._letters + "".join([word for word, _ in records])
+        word = "".join([letters for letters, _ in records])
+        self._letters = self._letters + word
+        self._answers.extend([None] * len(word))
+        last = len(self._letters) - self._reader.behind
+        self.mark(last - len(word) + 1, last)
 
     def come(self, name):
         """A reader comes in."""
@@ -46,10 +50,9 @@ class Desk:
     def told(self, name):
         """The ascending tuple of (place, kind) for the borders that a reader can tell."""
         self.check_name(name)
+        self.work_out()
         first = max(1, self._starts[name] + self._reader.ahead)
-        last = len(self._letters) - self._reader.behind
-        answers = [(place, self.answer_at(place)) for place in range(first, last + 1)]
-        return tuple([pair for pair in answers if pair[1] not in (None, "")])
+        return tuple([(place, kind) for place, kind in enumerate(self._answers[first:], start=first) if kind])
 
     def news(self, name):
         """What a reader can tell and was not returned to it here before."""
@@ -62,22 +65,27 @@ class Desk:
 
     def spoil(self, place, letter):
         """Puts a letter in front of a place instead of the one that is there."""
-        if not is_letter(self.form.letters, letter):
+        if not is_letter(self._reader.form.letters, letter):
             raise BadWord(letter)
         self._letters = self._letters[:place - 1] + letter + self._letters[place:]
-        for near in range(place - self._reader.behind, place + self._reader.ahead):
-            if near in self._answers:
-                del self._answers[near]
+        self.mark(place - self._reader.behind, place + self._reader.ahead - 1)
 
     def check_name(self, name):
         """Raises UnknownName unless a reader with this name is there."""
         if name not in self._starts:
             raise UnknownName(name)
 
-    def answer_at(self, place):
-        """The answer of the stretch at a place, or None if it does not occur."""
-        if place not in self._answers:
-            reader = self._reader
+    def mark(self, first, last):
+        """Marks the places from first to last, as far as they have enough letters ahead and behind."""
+        start = max(1, self._reader.ahead, first)
+        end = min(len(self._letters) - self._reader.behind, last)
+        for place in range(start, end + 1):
+            self._stale[place] = True
+
+    def work_out(self):
+        """Works out the answers at the places that are marked."""
+        reader = self._reader
+        for place in self._stale:
             ahead = self._letters[place - reader.ahead:place]
             self._answers[place] = reader(ahead, self._letters[place:place + reader.behind])
-        return self._answers[place]
+        self._stale = {}

@@ -40,8 +40,6 @@ def common(form, other, n):
     """The first word of n letters that stands in letters of texts of both formats, or None."""
     arrows = arrows_of_both(form, other)
     groups = lasting_groups(arrows, (1 << form.states * other.states) - 1, n)
-    if groups[-1] == 0:
-        return None
     for word in words_along(form.letters, arrows, groups):
         return word
     return None
